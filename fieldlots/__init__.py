@@ -1,0 +1,1 @@
+"""Fieldlots: forces spread over fields."""
