@@ -1,7 +1,6 @@
 """Plain walks over all strengths, against which the tests hold the program."""
 
 from fractions import Fraction
-from math import lcm
 
 from fieldlots.blends import Blend
 from fieldlots.ratio import Ratio
@@ -84,8 +83,3 @@ def same_chances(blend):
             parts.append((share * Ratio(run.count - cut, run.count), Run(run.first + step * cut, step, run.count - cut)))
             parts.append((share * Ratio(cut, run.count), Run(run.first, step, cut)))
     return Blend(parts)
-
-
-def steps_of(blend):
-    """After how many strengths the blend looks alike."""
-    return lcm(*[run.step for _, run in blend.parts])
