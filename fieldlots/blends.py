@@ -1,46 +1,18 @@
 """Blends: runs chosen by shares."""
 
 from fieldlots.checks import check_ties
-from fieldlots.errors import BadShares, TooMany
-from fieldlots.ratio import Ratio, added, as_ratio
+from fieldlots.errors import BadShares
+from fieldlots.ratio import Ratio, added
 from fieldlots.runs import Run, run_gain
-
-MOST_PARTS = 64
-
-
-def _check_parts(parts):
-    if len(parts) > MOST_PARTS:
-        raise TooMany("parts", MOST_PARTS)
-    shares = [share for share, _ in parts]
-    if any([share < 0 for share in shares]):
-        raise BadShares("a share is negative")
-    if added(shares) != 1:
-        raise BadShares("the shares do not add up to 1")
-
-
-def _put_together(parts):
-    """The parts with a share, equal runs as one at the place of the first of them."""
-    places = {}
-    kept = []
-    for share, run in parts:
-        key = (run.first, run.step, run.count)
-        if share == 0:
-            continue
-        if key in places:
-            earlier, _ = kept[places[key]]
-            kept[places[key]] = (earlier + share, run)
-        else:
-            places[key] = len(kept)
-            kept.append((as_ratio(share), run))
-    return kept
+from fieldlots.shares import check_parts, mixed_parts, put_together
 
 
 class Blend:
     """Parts, pairs of a share and a run: first a run is chosen, then a strength of it."""
 
     def __init__(self, parts):
-        _check_parts(parts)
-        self.parts = _put_together(parts)
+        check_parts(parts)
+        self.parts = put_together(parts, [(run.first, run.step, run.count) for _, run in parts])
 
     @classmethod
     def point(cls, k):
@@ -72,9 +44,7 @@ class Blend:
 
     def mixed(self, share, other):
         """The blend that is this one with the share and the other with the rest of 1."""
-        own = [(share * part, run) for part, run in self.parts]
-        rest = 1 - share
-        return Blend(own + [(rest * part, run) for part, run in other.parts])
+        return Blend(mixed_parts(share, self.parts, other.parts))
 
     def gain(self, k, *, ties=0):
         """The gain of the blend's holder against strength k."""
@@ -110,3 +80,8 @@ def meet(one, other, *, ties=0):
         for part, facing in other:
             gains.append(share * part * run_gain(run, facing, ties=ties))
     return added(gains)
+
+
+def two_runs(share, run, other):
+    """The blend of one run with the share and another with the rest of 1."""
+    return Blend([(share, run), (1 - share, other)])
