@@ -1,8 +1,10 @@
 """Checks of arguments that several modules share."""
 
-from fieldlots.errors import BadNumber, TooMany
+from fieldlots.errors import BadNumber, Mismatch, TooMany
 
 MOST_FIELDS = 12
+MOST_ROWS = 12
+MOST_COLUMNS = 12
 MOST_WORTH = 1000
 
 
@@ -12,6 +14,12 @@ def check_ties(ties):
         raise BadNumber("ties", ties)
 
 
+def check_worth(worth):
+    """Refuses a field's worth out of its bounds."""
+    if not 1 <= worth <= MOST_WORTH:
+        raise BadNumber("worth", worth)
+
+
 def check_worths(worths):
     """Refuses too many fields, no field, and a field's worth out of its bounds."""
     if len(worths) > MOST_FIELDS:
@@ -19,5 +27,19 @@ def check_worths(worths):
     if not worths:
         raise BadNumber("fields", 0)
     for worth in worths:
-        if not 1 <= worth <= MOST_WORTH:
-            raise BadNumber("worth", worth)
+        check_worth(worth)
+
+
+def check_table(rows):
+    """Refuses a table with too few or too many rows or columns, or with rows of unlike lengths."""
+    if not rows:
+        raise BadNumber("rows", 0)
+    if len(rows) > MOST_ROWS:
+        raise TooMany("rows", MOST_ROWS)
+    width = len(rows[0])
+    if width == 0:
+        raise BadNumber("columns", 0)
+    if width > MOST_COLUMNS:
+        raise TooMany("columns", MOST_COLUMNS)
+    if any([len(row) != width for row in rows]):
+        raise Mismatch("rows of unlike lengths")

@@ -1,6 +1,8 @@
 """Plain walks over all strengths, against which the tests hold the program."""
 
 from fractions import Fraction
+from itertools import permutations, product
+from math import factorial
 
 from fieldlots.blends import Blend
 from fieldlots.ratio import Ratio
@@ -83,3 +85,58 @@ def same_chances(blend):
             parts.append((share * Ratio(run.count - cut, run.count), Run(run.first + step * cut, step, run.count - cut)))
             parts.append((share * Ratio(cut, run.count), Run(run.first, step, cut)))
     return Blend(parts)
+
+
+def number(text):
+    """The Ratio of a written number."""
+    return ratio(Fraction(text))
+
+
+def text_of_blend(blend):
+    """The parts of a blend, written in their order."""
+    return " + ".join(f"{share}*{run.first}:{run.step}:{run.count}" for share, run in blend.parts)
+
+
+def text_of_line(line):
+    """The start and the slope of a line, written."""
+    return f"{line.start} {line.slope}"
+
+
+def texts_of_verdict(verdict):
+    """The worth, the lots and the lines of a verdict, written."""
+    return (str(verdict.worth), text_of_blend(verdict.one), text_of_blend(verdict.two),
+            text_of_line(verdict.floor_one), text_of_line(verdict.floor_two))
+
+
+def numbers_of_verdict(verdict):
+    """All numbers of a verdict that have to be Ratios."""
+    found = [verdict.worth, verdict.mean_one, verdict.mean_two]
+    for line in (verdict.floor_one, verdict.floor_two):
+        found += [line.start, line.slope]
+    for blend in (verdict.one, verdict.two):
+        found += [share for share, _ in blend.parts]
+    return found
+
+
+def rows_of(many, forces):
+    """All descending tuples of so many strengths with this sum."""
+    return [row for row in product(range(forces + 1), repeat=many)
+            if sum(row) == forces and all(x >= y for x, y in zip(row, row[1:]))]
+
+
+def walked_spreads(sizes, forces):
+    """All spreads over classes of these sizes, by a walk over all tuples, in no order."""
+    found = []
+    for split in product(range(forces + 1), repeat=len(sizes)):
+        if sum(split) == forces:
+            found += product(*[rows_of(many, part) for many, part in zip(sizes, split)])
+    return found
+
+
+def walked_spread_gain(classes, one, other, ties):
+    """What one spread gets against another, by a walk over all orders of both on the fields of each class."""
+    total = Fraction(0)
+    for (worth, many), row, facing in zip(classes, one, other):
+        for xs, ys in product(permutations(row), permutations(facing)):
+            total += Fraction(worth * sum(duel_of(x, y, ties) for x, y in zip(xs, ys)), factorial(many) ** 2)
+    return total
