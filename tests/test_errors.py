@@ -4,10 +4,16 @@ from fieldlots import errors
 from fieldlots.answers import best_answer, best_over
 from fieldlots.blends import Blend, meet
 from fieldlots.breach import first_breach
+from fieldlots.costs import priced, solve_costs
 from fieldlots.errors import BadNumber, LotError
+from fieldlots.grounds import Ground, spread_gain
 from fieldlots.lines import Line
+from fieldlots.plans import Plan, plan_gain, plans_gain
 from fieldlots.ratio import Ratio
+from fieldlots.replies import best_reply
 from fieldlots.runs import Run, run_gain
+from fieldlots.sums import solve
+from fieldlots.truegame import TrueGame, true_game
 from fieldlots.verdicts import CostVerdict, Verdict
 
 NAMES = ("ZeroUnder BadNumber BadShares NoPlace TooMany Mismatch BadSpread NoLimit NotTiled BadMove "
@@ -78,6 +84,24 @@ class TiesAreCheckedFirst(unittest.TestCase):
         floors = (Line(0, 0), Line(0, 0))
         self.refused(Verdict, 0, lots=lots, floors=floors, means=(2, 2))
         self.refused(CostVerdict, 0, lots=lots, floors=floors, costs=(1, 1))
+
+    def test_sums_and_costs(self):
+        self.refused(solve, -1, -1)
+        self.refused(solve_costs, 0, 0)
+        self.refused(priced, [0] * 13, 0, 0)
+        self.refused(priced, [], 0, 0)
+
+    def test_spreads_and_plans(self):
+        ground = Ground.plain(2)
+        plan = Plan(ground, [(1, ((2, 1),))])
+        other = Plan(Ground.plain(1), [(1, ((3,),))])
+        self.refused(spread_gain, ground, (), ())
+        self.refused(plan_gain, plan, ())
+        self.refused(plans_gain, plan, other)
+        self.refused(best_reply, plan, -1)
+        self.refused(true_game, ground, -1, -1)
+        self.refused(true_game, ground, 40, 40)
+        self.refused(TrueGame, 0, plan, plan)
 
     def test_ties_are_passed_by_keyword_and_may_be_left_out(self):
         two = Run.point(2)

@@ -15,7 +15,8 @@ TREES = {path: ast.parse(path.read_text(encoding="utf-8")) for path in FILES}
 LIBRARY = {
     "heapq": {"heappush", "heappop", "heapify", "heapreplace", "heappushpop"},
     "math": {"gcd", "lcm", "isqrt", "comb", "perm", "factorial"},
-    "itertools": {"product", "combinations", "permutations", "chain", "accumulate", "pairwise", "islice", "zip_longest"},
+    # Blends and plans are iterated over and have a length: no product, combinations or permutations beside them.
+    "itertools": {"chain", "accumulate", "pairwise", "islice", "zip_longest"},
     "collections": {"defaultdict"},
 }
 BUILTINS = set((
@@ -173,6 +174,33 @@ class Statements(unittest.TestCase):
             self.assertIsInstance(node.value, ast.Constant, place)
             self.assertIsInstance(node.value.value, int, place)
 
+    def test_generators_have_their_own_names(self):
+        functions = [(place, node) for place, node in nodes(ast.FunctionDef)]
+        attributes = {node.attr for _, node in nodes(ast.Attribute) if isinstance(node.ctx, ast.Store)}
+        for place, node in functions:
+            if any(isinstance(part, (ast.Yield, ast.YieldFrom)) for part in ast.walk(node)):
+                named = [other for _, other in functions if other.name == node.name]
+                self.assertEqual(len(named), 1, place)
+                self.assertNotIn(node.name, attributes, place)
+
+    def test_generators_are_iterated_at_once(self):
+        makers = {node.name for _, node in nodes(ast.FunctionDef)
+                  if any(isinstance(part, (ast.Yield, ast.YieldFrom)) for part in ast.walk(node))}
+        taken = set()
+        for _, node in nodes(ast.For, ast.comprehension):
+            taken.add(node.iter)
+        for _, node in nodes(ast.YieldFrom):
+            taken.add(node.value)
+        for _, node in nodes(ast.Call):
+            if isinstance(node.func, ast.Name) and node.func.id in ("list", "tuple"):
+                taken.update(node.args)
+        for place, node in nodes(ast.Call):
+            name = getattr(node.func, "id", getattr(node.func, "attr", None))
+            if name in makers:
+                self.assertIn(node, taken, place)
+                for arg in node.args:
+                    self.assertIsInstance(arg, (ast.Name, ast.Attribute, ast.Constant), place)
+
     def test_powers(self):
         for place, node in nodes(ast.Pow):
             self.fail(f"{place}: a power, take a loop")
@@ -212,6 +240,16 @@ class Classes(unittest.TestCase):
             methods |= self.methods(node)
             attributes |= self.attributes(node)
         self.assertEqual(methods & attributes, set())
+
+    def test_class_values_are_plain_and_stay(self):
+        stored = {node.attr for _, node in nodes(ast.Attribute) if not isinstance(node.ctx, ast.Load)}
+        for place, node in nodes(ast.ClassDef):
+            for row in node.body:
+                if isinstance(row, ast.Assign):
+                    self.assertIsInstance(row.value, ast.Constant, place)
+                    self.assertNotIn(row.targets[0].id, stored | self.methods(node), place)
+                else:
+                    self.assertIsInstance(row, (ast.FunctionDef, ast.Expr), place)
 
     def test_what_has_items_has_its_iteration(self):
         for place, node in nodes(ast.ClassDef):
