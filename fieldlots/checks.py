@@ -30,6 +30,14 @@ def check_worths(worths):
         check_worth(worth)
 
 
+def check_fields(fields, most):
+    """Refuses less than one field and more fields than the most."""
+    if fields < 1:
+        raise BadNumber("fields", fields)
+    if fields > most:
+        raise TooMany("fields", most)
+
+
 def check_table(rows):
     """Refuses a table with too few or too many rows or columns, or with rows of unlike lengths."""
     if not rows:

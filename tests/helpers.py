@@ -5,11 +5,21 @@ from itertools import permutations, product
 from math import factorial
 
 from fieldlots.blends import Blend
+from fieldlots.errors import LotError
 from fieldlots.ratio import Ratio
 from fieldlots.runs import Run
 
 BIG = 10 ** 30
 TIES = (-1, 0, 1)
+
+
+def refused(call, *rest, **more):
+    """The name and the attributes of the error that a call raises, or None if it raises none."""
+    try:
+        call(*rest, **more)
+    except LotError as error:
+        return (type(error).__name__, *vars(error).values())
+    return None
 
 
 def fraction(number):

@@ -8,9 +8,12 @@ from fieldlots.costs import priced, solve_costs
 from fieldlots.errors import BadNumber, LotError
 from fieldlots.grounds import Ground, spread_gain
 from fieldlots.lines import Line
+from fieldlots.making import bridge
 from fieldlots.plans import Plan, plan_gain, plans_gain
 from fieldlots.ratio import Ratio
 from fieldlots.replies import best_reply
+from fieldlots.rounds import Rounds
+from fieldlots.rowgame import least_forces, row_game, row_pay
 from fieldlots.runs import Run, run_gain
 from fieldlots.sums import solve
 from fieldlots.truegame import TrueGame, true_game
@@ -102,6 +105,13 @@ class TiesAreCheckedFirst(unittest.TestCase):
         self.refused(true_game, ground, -1, -1)
         self.refused(true_game, ground, 40, 40)
         self.refused(TrueGame, 0, plan, plan)
+
+    def test_making_rows_and_rounds(self):
+        self.refused(bridge, 0, -1, -1)
+        self.refused(row_pay, (1,), (), [])
+        self.refused(least_forces, (), 0)
+        self.refused(row_game, 0, (-1, -1), [])
+        self.refused(Rounds, [], -1, -1)
 
     def test_ties_are_passed_by_keyword_and_may_be_left_out(self):
         two = Run.point(2)
