@@ -28,6 +28,10 @@ METHODS = set((
     "init eq repr str len enter exit call iter lt le gt ge ne add sub mul floordiv mod pow and or xor lshift rshift "
     "radd rsub rmul rfloordiv rmod rand ror rxor rlshift rrshift iadd isub imul ifloordiv imod iand ior ixor "
     "neg pos invert abs bool contains getitem setitem").split())
+# Of the methods of strings, lists and dicts, those that the package takes.
+BUILTIN_METHODS = set("append count extend get index insert items join partition pop removeprefix split startswith".split())
+# Attributes that are called, since a line is.
+LINES = {"floor_one", "floor_two"}
 DECORATORS = {"property", "staticmethod", "classmethod", "setter"}
 NEVER_NAMES = set((
     "register mro elements open input law version_info with_traceback add_note attrgetter breakpoint builtins compile "
@@ -168,11 +172,42 @@ class Statements(unittest.TestCase):
             self.fail(f"{place} {type(node).__name__}")
 
     def test_in_place_signs(self):
-        # Other forms would meet the reflected and in-place methods of the package's classes.
+        # They would meet the reflected and in-place methods of the package's classes.
         for place, node in nodes(ast.AugAssign):
-            self.assertIsInstance(node.op, (ast.Add, ast.Sub), place)
-            self.assertIsInstance(node.value, ast.Constant, place)
-            self.assertIsInstance(node.value.value, int, place)
+            self.fail(f"{place}: an in-place sign")
+
+    def test_what_the_library_gives_is_only_called(self):
+        for path, tree in TREES.items():
+            given = {alias.name for node in tree.body if isinstance(node, ast.ImportFrom) and node.module in LIBRARY
+                     for alias in node.names}
+            called = {node.func for node in ast.walk(tree) if isinstance(node, ast.Call) and not node.keywords}
+            for node in ast.walk(tree):
+                if isinstance(node, ast.Name) and node.id in given:
+                    self.assertIn(node, called, f"{path.name}:{node.lineno}")
+
+    def test_methods_that_are_called(self):
+        own = {node.name for _, node in nodes(ast.FunctionDef)}
+        for place, node in nodes(ast.Call):
+            if isinstance(node.func, ast.Attribute):
+                self.assertTrue(node.func.attr in own | BUILTIN_METHODS | LINES, f"{place} {node.func.attr}")
+
+    def test_errors_are_made_where_they_are_raised(self):
+        for place, node in nodes(ast.Raise):
+            self.assertIsInstance(node.exc, ast.Call, place)
+            self.assertIsInstance(node.exc.func, ast.Name, place)
+            self.assertTrue(node.cause is None or isinstance(node.cause, ast.Constant) and node.cause.value is None, place)
+
+    def test_only_own_errors_are_caught(self):
+        errors = {node.name for node in TREES[PACKAGE / "errors.py"].body if isinstance(node, ast.ClassDef)}
+        for place, node in nodes(ast.ExceptHandler):
+            self.assertIn(node.type.id, errors, place)
+            self.assertIsNone(node.name, place)
+
+    def test_is_stands_before_a_constant(self):
+        for place, node in nodes(ast.Compare):
+            for sign, side in zip(node.ops, node.comparators):
+                if isinstance(sign, (ast.Is, ast.IsNot)):
+                    self.assertIsInstance(side, ast.Constant, place)
 
     def test_generators_have_their_own_names(self):
         functions = [(place, node) for place, node in nodes(ast.FunctionDef)]
@@ -255,6 +290,13 @@ class Classes(unittest.TestCase):
         for place, node in nodes(ast.ClassDef):
             if "__getitem__" in self.methods(node):
                 self.assertIn("__iter__", self.methods(node), place)
+
+    def test_contexts_are_left_by_assignments_alone(self):
+        for place, node in nodes(ast.FunctionDef):
+            if node.name == "__exit__":
+                for row in node.body:
+                    self.assertIsInstance(row, ast.Assign, place)
+                    self.assertIsInstance(row.value, (ast.Attribute, ast.Name), place)
 
     def test_operators_change_nothing(self):
         for place, node in nodes(ast.ClassDef):

@@ -73,7 +73,7 @@ class Pays(unittest.TestCase):
             self.assertEqual(self.check((), (), [5], ties), 0)
 
     def test_ties_left_out_pay_nobody(self):
-        self.assertEqual(row_pay((1, 2), (1, 1), [4]), 4)
+        self.assertEqual(row_pay((1, 2), (1, 1), [4, 9]), 4)
         self.assertRaises(TypeError, row_pay, (1,), (1,), [4], 0)
 
     def test_refusals_in_their_order(self):
